@@ -1,0 +1,1 @@
+"""Forkbeats: tuning forks that beat together, and what their beats leave open."""
