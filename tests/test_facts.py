@@ -286,7 +286,9 @@ class CheckTest(unittest.TestCase):
 
     def test_the_first_count_in_the_order_of_the_tuple_is_told(self):
         most = Fact.MOST_COUNT
-        for beats, count in [((5, -1, -2), -1), ((5, -2, -1), -2), ((most + 2, -1, 0), most + 2), ((0, most + 2, most + 1), most + 2)]:
+        for beats, count in [
+            ((5, -1, -2), -1), ((5, -2, -1), -2), ((most + 2, -1, 0), most + 2), ((0, most + 2, most + 1), most + 2),
+        ]:
             self.assertEqual(caught(Trio, "a", "b", "c", beats=beats), (BadCount, {"count": count}))
 
     def test_names_come_before_counts(self):

@@ -289,7 +289,8 @@ class WrittenFormTest(unittest.TestCase):
             "a=1 a=1", "a=1 b=2 a=2", "a=1\n", "\na=1", "a=1\nb=2", "\n", "a=1\tb=2", "a=1\r", "a=1 b=2\n",
             "a", "a=", "=1", "=", "a=-", "a=--1", "a=1-", "a=1=2", "a==1", "a =1", "a= 1", "a=1,b=2", "a=1 b",
             "A=1", "a1=1", "abcdefghijklm=1", "-a=1", "a=1_0", "a=1.0", "a=0x1", "a=b", "1=a", "1",
-            "a=\u0661", "a=\u00b2", "\u00e4=1", "a=1\u00a0b=2", "a\u00a0=1", "a=\uff11", "a=\u22121", "a=1 B=2", "a=1 b=02",
+            "a=\u0661", "a=\u00b2", "\u00e4=1", "a=1\u00a0b=2", "a\u00a0=1", "a=\uff11", "a=\u22121",
+            "a=1 B=2", "a=1 b=02",
         ]:
             with self.subTest(text):
                 self.assertEqual(caught(Tuning.read, text), (BadText, {"text": text}))

@@ -47,7 +47,9 @@ class NumeralTest(unittest.TestCase):
             self.assertIs(is_numeral(word, 10), True)
 
     def test_other_words(self):
-        for word in ["", "00", "01", "007", "-1", "-0", "+1", "1 ", " 1", "1\n", "1_0", "1.0", "a", "1a", "\u0661", "\u00b2"]:
+        for word in [
+            "", "00", "01", "007", "-1", "-0", "+1", "1 ", " 1", "1\n", "1_0", "1.0", "a", "1a", "\u0661", "\u00b2",
+        ]:
             with self.subTest(word):
                 self.assertIs(is_numeral(word, 10), False)
 
