@@ -1,6 +1,6 @@
 """What several tests share."""
 
-from forkbeats.errors import ForkError
+from forkbeats.errors import ForkError, NothingToRedo
 
 
 def caught(act, *args, **more):
@@ -10,3 +10,23 @@ def caught(act, *args, **more):
     except ForkError as error:
         return type(error), vars(error)
     raise AssertionError("the call raised no error of the program")
+
+
+def undone(bench):
+    """Return the texts of the undone deeds, in the order in which they would be redone."""
+    texts = []
+    try:
+        while True:
+            texts.append(bench.redo())
+    except NothingToRedo:
+        pass
+    for _ in texts:
+        bench.undo()
+    return texts
+
+
+def told(bench):
+    """Return what a bench tells of itself, to compare it later."""
+    return (
+        bench.forks(), bench.strikes(), bench.facts(), bench.limit, bench.rounds, bench.history(), undone(bench),
+    )

@@ -1,10 +1,14 @@
 """The interface and its examples: every name stands where the document lists it."""
 
 import importlib
+import inspect
 import unittest
 
-from forkbeats.errors import Clash
+from forkbeats.bench import Bench
+from forkbeats.errors import BadText, Clash
 from forkbeats.facts import Above, Trio
+from forkbeats.graph import blocks, cut_forks, walk
+from forkbeats.notation import parse_fact
 from forkbeats.tunings import Tuning
 from tests.helpers import caught
 
@@ -29,6 +33,37 @@ METHODS = {
         "Both": ["__init__"],
         "Either": ["__init__"],
     },
+    "bench": {
+        "Bench": [
+            "__init__", "of", "add", "strike", "tell", "change", "undo", "redo", "history", "forks", "strikes", "facts",
+            "twin", "limit", "rounds", "MOST_FORKS", "MOST_STRIKES", "MOST_FACTS", "MOST_LIMIT",
+        ],
+    },
+}
+FUNCTIONS = {
+    "notation": {"parse_fact": "(text)"},
+    "bench": {"joined": "(first, second)"},
+    "graph": {
+        "pieces": "(bench)",
+        "walk": "(bench, a, b)",
+        "blocks": "(bench)",
+        "cut_forks": "(bench)",
+        "part": "(bench, index)",
+    },
+}
+BENCH = {
+    "of": "(*strikes, limit=0)",
+    "add": "(self, *names)",
+    "strike": "(self, a, b, count)",
+    "tell": "(self, fact)",
+    "change": "(self, what, value)",
+    "undo": "(self)",
+    "redo": "(self)",
+    "history": "(self)",
+    "forks": "(self)",
+    "strikes": "(self)",
+    "facts": "(self)",
+    "twin": "(self)",
 }
 
 
@@ -41,9 +76,27 @@ class InterfaceTest(unittest.TestCase):
                 for method in methods:
                     self.assertIn(method, vars(kind), f"{name}.{method}")
 
+    def test_each_function_stands_in_its_file_with_its_arguments(self):
+        for module, functions in FUNCTIONS.items():
+            for name, arguments in functions.items():
+                function = getattr(importlib.import_module(f"forkbeats.{module}"), name)
+                self.assertTrue(inspect.isfunction(function), name)
+                self.assertEqual(function.__module__, f"forkbeats.{module}")
+                self.assertEqual(str(inspect.signature(function)), arguments, name)
+
+    def test_the_arguments_of_the_methods_of_a_bench(self):
+        self.assertEqual(str(inspect.signature(Bench)), "(limit=0)")
+        for name, arguments in BENCH.items():
+            self.assertEqual(str(inspect.signature(getattr(Bench, name))), arguments, name)
+
     def test_of_is_a_class_method_and_read_a_static_method(self):
         self.assertIsInstance(vars(Tuning)["of"], classmethod)
+        self.assertIsInstance(vars(Bench)["of"], classmethod)
         self.assertIsInstance(vars(Tuning)["read"], staticmethod)
+
+    def test_limit_and_rounds_are_properties(self):
+        self.assertIsInstance(vars(Bench)["limit"], property)
+        self.assertIsInstance(vars(Bench)["rounds"], property)
 
 
 class ExamplesTest(unittest.TestCase):
@@ -64,6 +117,22 @@ class ExamplesTest(unittest.TestCase):
         self.assertEqual(
             (str(fact), fact.forks(), fact.depth, fact(Tuning.of(a=0, b=5, c=3))),
             ("both (not (above a b)) (trio a c b 2 3 5)", ["a", "b", "c"], 3, True))
+
+    def test_notation(self):
+        self.assertEqual(caught(parse_fact, "trio a b c 3 1 2"), (BadText, {"text": "trio a b c 3 1 2"}))
+
+    def test_bench(self):
+        bench = Bench.of(("a", "b", 4), limit=1)
+        bench.undo()
+        self.assertEqual(
+            (bench.history(), bench.redo(), bench.strikes(), bench.rounds, bench.limit),
+            (["add a", "add b"], "strike a b 4", [("a", "b", 4)], 0, 1))
+
+    def test_graph(self):
+        bench = Bench.of(("a", "b", 1), ("b", "c", 2), ("c", "d", 2), ("d", "b", 0))
+        self.assertEqual(
+            (blocks(bench), cut_forks(bench), walk(bench, "a", "d")),
+            ([[0], [1, 2, 3]], ["b"], [0, 3]))
 
 
 if __name__ == "__main__":

@@ -14,6 +14,13 @@ BUILTINS = {
     "hasattr", "setattr", "iter", "next", "map", "super", "property", "staticmethod", "classmethod",
     "ValueError", "KeyError", "IndexError", "LookupError", "TypeError", "NotImplementedError", "NotImplemented",
 }
+# The interface's order, with the modules that it does not list where they are first needed.
+ORDER = ["errors", "words", "tunings", "facts", "notation", "bench", "graph"]
+BARRED_NAMES = re.compile(
+    r"(_cold|_tuplegetter|_outside|_record|_written_out|_member_names)[0-9_]*"
+    r"|_(wall|pe_|dcw_|enum_|cm_|twin_re_|lay_|law_|stub_|sre|WallAttr).*|register|mro|elements|open|input|law"
+    r"|attrgetter|breakpoint|builtins|compile|copyright|credits|delattr|dir|eval|exec|exit|gc|globals|help|id"
+    r"|importlib|license|locals|methodcaller|os|quit|sys|vars|bytearray|memoryview|print|hash|round|filter|format")
 BARRED = re.compile(
     r"\b(type|typing|enum|Enum|Generic|Protocol|namedtuple|TypedDict|abstractmethod)\b"
     r"|dataclass|overload|contextmanager|Meta|metaclass=|_wall")
@@ -34,7 +41,7 @@ def bound_names(tree):
             found.add(node.arg)
         elif isinstance(node, ast.alias):
             found.add(node.asname or node.name)
-        elif isinstance(node, ast.ExceptHandler) and node.name:
+        elif isinstance(node, (ast.ExceptHandler, ast.MatchAs, ast.MatchStar)) and node.name:
             found.add(node.name)
     return found
 
@@ -66,6 +73,36 @@ class LanguageTest(unittest.TestCase):
                     self.assertEqual(node.level, 0, path.name)
                     self.assertIn(node, tree.body, path.name)
                     self.assertIn(node.module.split(".")[0], LIBRARY | {"forkbeats"}, path.name)
+
+    def test_each_module_needs_only_modules_above_it(self):
+        self.assertEqual({path.stem for path in FILES}, {"__init__", *ORDER})
+        for path, _, tree in trees():
+            for node in ast.walk(tree):
+                if isinstance(node, ast.ImportFrom) and node.module.startswith("forkbeats."):
+                    needed = node.module.removeprefix("forkbeats.")
+                    self.assertIn(needed, ORDER[:ORDER.index(path.stem)], path.name)
+
+    def test_names_that_are_barred(self):
+        for path, _, tree in trees():
+            stored = {node.attr for node in ast.walk(tree)
+                      if isinstance(node, ast.Attribute) and isinstance(node.ctx, ast.Store)}
+            for name in bound_names(tree) | stored:
+                self.assertIsNone(BARRED_NAMES.fullmatch(name), f"{path.name} {name}")
+                self.assertRegex(name, "^(_?[A-Za-z][A-Za-z0-9_]*|_|__[a-z]+__)$", path.name)
+
+    def test_stars_stand_before_names_alone(self):
+        for path, _, tree in trees():
+            for node in ast.walk(tree):
+                if isinstance(node, ast.Starred):
+                    self.assertIsInstance(node.value, ast.Name, path.name)
+
+    def test_functions_do_not_repeat_names_of_their_file(self):
+        for path, _, tree in trees():
+            top = {node.name for node in tree.body if isinstance(node, (ast.FunctionDef, ast.ClassDef))}
+            top |= {alias.name for node in tree.body if isinstance(node, ast.ImportFrom) for alias in node.names}
+            inner = [name for node in ast.walk(tree) if isinstance(node, ast.FunctionDef)
+                     for part in node.args.args + node.body for name in bound_names(part)]
+            self.assertEqual(top & set(inner), set(), path.name)
 
     def test_names_that_are_not_bound_are_allowed_builtins(self):
         for path, _, tree in trees():
