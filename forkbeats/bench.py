@@ -105,10 +105,14 @@ class Bench:
 
     def add(self, *names):
         """Add forks in the order of the call."""
+        self.add_all(names)
+
+    def add_all(self, names):
+        """Do what one call of `add` with these names does."""
         check_new(names, self._forks)
         check_room("forks", len(self._forks) + len(names), Bench.MOST_FORKS)
         self._begin(spaced("add", *names))
-        self._forks = self._forks + names
+        self._forks = self._forks + tuple(names)
 
     def strike(self, a, b, count):
         """Record the beats of two forks and return the index of the strike."""
@@ -210,8 +214,7 @@ class Bench:
 def joined(first, second):
     """Return a new bench with the forks, strikes and facts of both."""
     bench = Bench(max(first.limit, second.limit))
-    names = without_repeats(first.forks() + second.forks())
-    bench.add(*names)
+    bench.add_all(without_repeats(first.forks() + second.forks()))
     for a, b, count in first.strikes() + second.strikes():
         bench.strike(a, b, count)
     for fact in first.told() + second.told():

@@ -39,10 +39,9 @@ def part(bench, index):
     if index < 0 or index >= len(found):
         raise NoBlock(index)
     block = found[index]
-    names = forks_of(bench, block)
     strikes = bench.strikes()
     result = Bench()
-    result.add(*names)
+    result.add_all(forks_of(bench, block))
     for at in block:
         a, b, count = strikes[at]
         result.strike(a, b, count)
@@ -73,7 +72,7 @@ def walks_from(bench, start):
     while level:
         # A level is in ascending order of its walks, so the first walk to reach a fork is the least.
         reached = []
-        for here in level:
+        for here in list(level):
             for index, other in steps[here]:
                 if other not in walks:
                     walks[other] = walks[here] + [index]

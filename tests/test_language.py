@@ -26,6 +26,12 @@ BARRED = re.compile(
     r"|dataclass|overload|contextmanager|Meta|metaclass=|_wall")
 
 
+METHODS_OF_VALUES = {
+    name for kind in (str, bytes, int, list, tuple, dict, set) for name in dir(kind) if not name.startswith("__")
+}
+GROWING = {"append", "extend", "insert", "pop", "remove", "clear", "update", "setdefault", "reverse"}
+
+
 def trees():
     """Return the path, the text and the tree of each file."""
     return [(path, path.read_text("utf-8"), ast.parse(path.read_text("utf-8"))) for path in FILES]
@@ -43,6 +49,35 @@ def bound_names(tree):
             found.add(node.asname or node.name)
         elif isinstance(node, (ast.ExceptHandler, ast.MatchAs, ast.MatchStar)) and node.name:
             found.add(node.name)
+    return found
+
+
+def same_lists(function):
+    """Return pairs of names of which one is assigned to the other in the function."""
+    return [(target.id, node.value.id) for node in ast.walk(function) if isinstance(node, ast.Assign)
+            for target in node.targets if isinstance(target, ast.Name) and isinstance(node.value, ast.Name)]
+
+
+def changed_names(loop):
+    """Return the names of what is changed in place in the loop."""
+    found = set()
+    for node in ast.walk(loop):
+        if isinstance(node, ast.Call) and isinstance(node.func, ast.Attribute) and node.func.attr in GROWING:
+            found |= {node.func.value.id} if isinstance(node.func.value, ast.Name) else set()
+        elif isinstance(node, ast.Subscript) and not isinstance(node.ctx, ast.Load):
+            found |= {node.value.id} if isinstance(node.value, ast.Name) else set()
+    return found
+
+
+def grown_in_loops(function):
+    """Return the names that a loop walks while it changes them, or another name of theirs."""
+    found = []
+    for loop in ast.walk(function):
+        if isinstance(loop, ast.For) and isinstance(loop.iter, ast.Name):
+            changed = changed_names(loop)
+            for left, right in same_lists(function):
+                changed |= {left, right} if changed & {left, right} else set()
+            found += [loop.iter.id] if loop.iter.id in changed else []
     return found
 
 
@@ -95,6 +130,28 @@ class LanguageTest(unittest.TestCase):
             for node in ast.walk(tree):
                 if isinstance(node, ast.Starred):
                     self.assertIsInstance(node.value, ast.Name, path.name)
+
+    def test_stars_stand_in_calls_that_are_plainly_own_ones(self):
+        found = [tree for _, _, tree in trees()]
+        functions = {node.name for tree in found for node in tree.body
+                     if isinstance(node, (ast.FunctionDef, ast.ClassDef))}
+        methods = {node.name for tree in found for kind in tree.body if isinstance(kind, ast.ClassDef)
+                   for node in kind.body if isinstance(node, ast.FunctionDef)}
+        plain = functions | {"max", "min", "zip"}
+        for path, _, tree in trees():
+            for node in ast.walk(tree):
+                if not isinstance(node, ast.Call) or not any(isinstance(arg, ast.Starred) for arg in node.args):
+                    continue
+                if isinstance(node.func, ast.Name):
+                    self.assertIn(node.func.id, plain, f"{path.name} {node.lineno}")
+                else:
+                    self.assertIn(node.func.attr, methods - METHODS_OF_VALUES, f"{path.name} {node.lineno}")
+
+    def test_loops_walk_nothing_that_may_grow_in_them(self):
+        for path, _, tree in trees():
+            for function in ast.walk(tree):
+                if isinstance(function, ast.FunctionDef):
+                    self.assertEqual(grown_in_loops(function), [], f"{path.name} {function.name}")
 
     def test_functions_do_not_repeat_names_of_their_file(self):
         for path, _, tree in trees():
