@@ -173,10 +173,14 @@ class Bench:
     def twin(self):
         """Return a bench like this one, with the same deeds done and undone."""
         bench = Bench()
-        bench._restore(self._state())
-        bench._done = list(self._done)
-        bench._undone = list(self._undone)
+        bench.become(self)
         return bench
+
+    def become(self, other):
+        """Take over the state of another bench, with its deeds done and undone."""
+        self._restore(other._state())
+        self._done = list(other._done)
+        self._undone = list(other._undone)
 
     @property
     def limit(self):

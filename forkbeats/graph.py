@@ -12,7 +12,7 @@ def pieces(bench):
 def walk(bench, a, b):
     """Return the least of the shortest walks from one fork to another, as indexes of strikes."""
     check_known([a, b], bench.forks())
-    walks = walks_from(bench, a)
+    walks = walks_from(steps_of(bench), a)
     if b not in walks:
         raise Apart(a, b)
     return walks[b]
@@ -22,7 +22,7 @@ def blocks(bench):
     """Return the blocks as ascending lists of indexes of strikes."""
     walks = {}
     for piece in pieces(bench):
-        walks.update(walks_from(bench, piece[0]))
+        walks.update(walks_from(steps_of(bench), piece[0]))
     rings = [ring(index, walks[a], walks[b]) for index, (a, b, _) in enumerate(bench.strikes())]
     return merged(list(range(len(rings))), rings)
 
@@ -35,10 +35,7 @@ def cut_forks(bench):
 
 def part(bench, index):
     """Return a new bench with the forks and strikes of one block."""
-    found = blocks(bench)
-    if index < 0 or index >= len(found):
-        raise NoBlock(index)
-    block = found[index]
+    block = block_at(bench, index)
     strikes = bench.strikes()
     result = Bench()
     result.add_all(forks_of(bench, block))
@@ -46,6 +43,14 @@ def part(bench, index):
         a, b, count = strikes[at]
         result.strike(a, b, count)
     return result
+
+
+def block_at(bench, index):
+    """Return the block with this index in the list of blocks, or raise NoBlock."""
+    found = blocks(bench)
+    if index < 0 or index >= len(found):
+        raise NoBlock(index)
+    return found[index]
 
 
 def forks_of(bench, block):
@@ -57,16 +62,25 @@ def forks_of(bench, block):
 
 def steps_of(bench):
     """Return for each fork the list of its strikes, each with the fork at its other end."""
+    return steps_over(bench, list(range(len(bench.strikes()))))
+
+
+def steps_over(bench, indexes):
+    """Return what `steps_of` returns, as if the bench had only the strikes with these indexes."""
+    strikes = bench.strikes()
     steps = {name: [] for name in bench.forks()}
-    for index, (a, b, _) in enumerate(bench.strikes()):
+    for index in indexes:
+        a, b, _ = strikes[index]
         steps[a].append((index, b))
         steps[b].append((index, a))
     return steps
 
 
-def walks_from(bench, start):
-    """Return, by the forks that can be reached, the least of the shortest walks to them."""
-    steps = steps_of(bench)
+def walks_from(steps, start):
+    """Return, by the forks to which the steps lead, the least of the shortest walks to them.
+
+    The steps of each fork must be in ascending order; otherwise the walks are shortest ones, but not the least.
+    """
     walks = {start: []}
     level = [start]
     while level:
@@ -79,6 +93,29 @@ def walks_from(bench, start):
                     reached.append(other)
         level = reached
     return walks
+
+
+def led(strikes, rises, start, indexes):
+    """Return the fork to which the walk with these indexes leads, and the sum of its steps.
+
+    The rises stand by the indexes of their strikes. If some index has none, or its strike cannot be walked from where
+    the walk has come, the fork is None.
+    """
+    here = start
+    total = 0
+    for index in indexes:
+        if index not in rises:
+            return None, 0
+        a, b, _ = strikes[index]
+        if here == a:
+            here = b
+            total = total + rises[index]
+        elif here == b:
+            here = a
+            total = total - rises[index]
+        else:
+            return None, 0
+    return here, total
 
 
 def ring(index, there, back):

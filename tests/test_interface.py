@@ -5,11 +5,14 @@ import inspect
 import unittest
 
 from forkbeats.bench import Bench
+from forkbeats.certificates import checks
 from forkbeats.errors import BadText, Clash
-from forkbeats.facts import Above, Trio
+from forkbeats.facts import Above, Between, Trio
+from forkbeats.fittings import fittings
 from forkbeats.graph import blocks, cut_forks, walk
 from forkbeats.notation import parse_fact
 from forkbeats.tunings import Tuning
+from forkbeats.verdicts import Trial, least_limit, suppose, surely_off, verdict
 from tests.helpers import caught
 
 METHODS = {
@@ -39,6 +42,7 @@ METHODS = {
             "twin", "limit", "rounds", "MOST_FORKS", "MOST_STRIKES", "MOST_FACTS", "MOST_LIMIT",
         ],
     },
+    "verdicts": {"Trial": ["__init__", "__enter__", "__exit__"]},
 }
 FUNCTIONS = {
     "notation": {"parse_fact": "(text)"},
@@ -49,6 +53,33 @@ FUNCTIONS = {
         "blocks": "(bench)",
         "cut_forks": "(bench)",
         "part": "(bench, index)",
+    },
+    "fittings": {
+        "fits": "(bench, tuning)",
+        "residues": "(bench, tuning)",
+        "fittings": "(bench)",
+        "count_fittings": "(bench)",
+        "shapes": "(bench)",
+        "count_shapes": "(bench)",
+        "turn_block": "(bench, tuning, index)",
+        "block_counts": "(bench)",
+    },
+    "certificates": {
+        "rises": "(bench, index)",
+        "certificate": "(bench, question, *, holds=True)",
+        "checks": "(bench, question, tree, *, holds=True)",
+    },
+    "verdicts": {
+        "verdict": "(bench, question)",
+        "possible_beats": "(bench, a, b)",
+        "sure_beats": "(bench)",
+        "sure_above": "(bench)",
+        "sure_between": "(bench)",
+        "surely_off": "(bench)",
+        "sounds": "(bench)",
+        "least_limit": "(bench)",
+        "attempt": "(bench, act)",
+        "suppose": "(bench, question, *facts)",
     },
 }
 BENCH = {
@@ -88,6 +119,9 @@ class InterfaceTest(unittest.TestCase):
         self.assertEqual(str(inspect.signature(Bench)), "(limit=0)")
         for name, arguments in BENCH.items():
             self.assertEqual(str(inspect.signature(getattr(Bench, name))), arguments, name)
+
+    def test_the_arguments_of_a_trial(self):
+        self.assertEqual(str(inspect.signature(Trial)), "(bench)")
 
     def test_of_is_a_class_method_and_read_a_static_method(self):
         self.assertIsInstance(vars(Tuning)["of"], classmethod)
@@ -133,6 +167,28 @@ class ExamplesTest(unittest.TestCase):
         self.assertEqual(
             (blocks(bench), cut_forks(bench), walk(bench, "a", "d")),
             ([[0], [1, 2, 3]], ["b"], [0, 3]))
+
+    def test_fittings(self):
+        bench = Bench.of(("a", "b", 1), ("b", "c", 2), ("c", "a", 3))
+        rows = list(fittings(bench))
+        self.assertEqual((len(rows), rows[0].pitches(), rows[1].pitches()), (2, (0, -1, -3), (0, 1, 3)))
+
+    def test_certificates(self):
+        bench = Bench.of(("a", "b", 0), ("b", "c", 0))
+        tree = ("split", 0, [("split", 1, [("told", [[0], [0, 1]])])])
+        self.assertEqual(
+            (checks(bench, Between("a", "b", "c"), tree), checks(bench, Between("a", "b", "c"), tree, holds=False)),
+            (False, True))
+
+    def test_verdicts(self):
+        bench = Bench.of(("a", "b", 1), ("b", "c", 2), ("c", "a", 3))
+        self.assertEqual(
+            (verdict(bench, Above("a", "c")), suppose(bench, Above("a", "c"), Above("a", "b")), bench.facts()),
+            (("open", (0, -1, -3), (0, 1, 3)), "sure", []))
+        bench = Bench.of(("a", "b", 0), ("a", "b", 2), limit=2)
+        self.assertEqual(
+            (least_limit(bench)[0], least_limit(bench)[1], surely_off(bench)),
+            (2, (0, -1), [0, 1]))
 
 
 if __name__ == "__main__":
