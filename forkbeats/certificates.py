@@ -40,7 +40,6 @@ class Inquiry:
     """
 
     def __init__(self, bench, question, wanted):
-        self._names = bench.forks()
         self._strikes = bench.strikes()
         self._facts = bench.told()
         self._limit = bench.limit
@@ -71,8 +70,7 @@ class Inquiry:
         return len(off) > self._limit
 
     def _is_round(self, start, walk, decided):
-        if start not in self._names or not walk:
-            return False
+        # Without strikes, or from no fork of the bench, the sum is 0.
         end, total = led(self._strikes, decided, start, walk)
         return end == start and total != 0
 

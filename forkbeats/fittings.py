@@ -69,8 +69,9 @@ def block_counts(bench):
 
 def allowed_rises(count, limit):
     """Return the rises, ascending, that a strike with this count may have."""
+    # For the count 0 this takes -1 as beats, too, which gives the rises that 1 gives.
     beats = [count] if limit == 0 else [count - 1, count, count + 1]
-    return sorted({sign * value for value in beats if value >= 0 for sign in (-1, 1)})
+    return sorted({sign * value for value in beats for sign in (-1, 1)})
 
 
 def fitting_rows(bench):

@@ -145,16 +145,21 @@ class CertificateTest(unittest.TestCase):
         self.assert_sound(bench, None, certificate(bench, None), True)
 
     def test_the_lists_of_a_tree_are_its_own(self):
-        bench = Bench.of(("a", "b", 1), ("b", "c", 2), ("c", "a", 3), ("b", "a", 2), limit=2)
-        question = AsOften("a", "b", "b", "a")
-        first = certificate(bench, question)
-        lists = [node[-1] for node in nodes(first) if len(node) > 1]
-        lists += [walk for node in nodes(first) if node[0] in ("fact", "told") for walk in node[-1]]
-        self.assertEqual(len({id(part) for part in lists}), len(lists))
-        before = copy.deepcopy(first)
-        for part in lists:
-            part.clear()
-        self.assertEqual(certificate(bench, question), before)
+        kinds = set()
+        for bench, _, questions in asked()[::3]:
+            for question in questions:
+                first = certificate(bench, question)
+                if first is None:
+                    continue
+                lists = [node[-1] for node in nodes(first) if len(node) > 1]
+                lists += [walk for node in nodes(first) if node[0] in ("fact", "told") for walk in node[-1]]
+                self.assertEqual(len({id(part) for part in lists}), len(lists))
+                kinds |= {node[0] for node in nodes(first)}
+                before = copy.deepcopy(first)
+                for part in lists:
+                    part.clear()
+                self.assertEqual(certificate(bench, question), before)
+        self.assertEqual(kinds, {"split", "round", "fact", "spent", "told"})
 
 
 class ErrorsTest(unittest.TestCase):
@@ -291,6 +296,10 @@ class ChecksTest(unittest.TestCase):
             self.assert_checks(False, None, ("split", 0, [inner, ("split", index, [ring, ring])]))
             self.assert_checks(False, None, ("split", index, [inner]))
             self.assert_checks(False, None, ("split", index, []))
+        whole = ("split", 0, [inner, inner])
+        self.assert_checks(True, None, ("split", 2, [whole]))
+        self.assert_checks(False, None, ("split", -1, [whole]))
+        self.assert_checks(False, None, ("split", -2, [whole, whole]))
 
     def test_a_strike_is_decided_once(self):
         ring = ("round", "a", [0, 1])
