@@ -28,7 +28,7 @@ def fittings(bench):
 
 def count_fittings(bench):
     """Return the number of the fittings."""
-    return len(placed_rows(bench, placing_order(bench)))
+    return len(placed_rows(bench, placing_order(bench), None))
 
 
 def shapes(bench):
@@ -76,10 +76,12 @@ def allowed_rises(count, limit):
 
 def fitting_rows(bench):
     """Return the pitches of the fittings in ascending order."""
-    order = placing_order(bench)
-    places = {name: at for at, name in enumerate(order)}
-    columns = [places[name] for name in bench.forks()]
-    return sorted([tuple([row[at] for at in columns]) for row in placed_rows(bench, order)])
+    return ordered_rows(bench, None)
+
+
+def scale_rows(bench, scale):
+    """Return the pitches, in ascending order, of the tunings that fit and have all their pitches from the scale."""
+    return ordered_rows(bench, scale)
 
 
 def shape_rows(bench):
@@ -116,13 +118,23 @@ def strikes_to(name, placed, strikes):
     return there + [(places[a], count) for a, b, count in strikes if b == name and a in places]
 
 
-def placed_rows(bench, order):
-    """Return the pitches of all fittings, with the forks in this order."""
+def ordered_rows(bench, scale):
+    """Return what `placed_rows` returns, with the forks in bench order, and ascending."""
+    order = placing_order(bench)
+    columns = [order.index(name) for name in bench.forks()]
+    return sorted([tuple([row[at] for at in columns]) for row in placed_rows(bench, order, scale)])
+
+
+def placed_rows(bench, order, scale):
+    """Return the pitches, with the forks in this order, of the tunings that fit and have their pitches from the scale.
+
+    If the scale is None, any pitches will do, but the first fork of each piece has pitch 0.
+    """
     strikes = bench.strikes()
     rows = [((), 0)]
     for at, name in enumerate(order):
         ties = strikes_to(name, order[:at], strikes)
-        rows = [wider for row, off in rows for wider in widened(row, off, ties, bench.limit)]
+        rows = [wider for row, off in rows for wider in widened(row, off, ties, bench.limit, scale)]
         for fact in bench.told():
             names = fact.forks()
             if name in names and all([other in order[:at + 1] for other in names]):
@@ -131,18 +143,23 @@ def placed_rows(bench, order):
     return [row for row, _ in rows]
 
 
-def widened(row, off, ties, limit):
+def widened(row, off, ties, limit, scale):
     """Return the row with each pitch that the next fork may have, and the number of strikes that are then off."""
-    if not ties:
-        return [(row + (0,), off)]
+    pitches = near_pitches(row, ties, limit) if scale is None else scale
     found = []
-    place, count = ties[0]
-    for rise in allowed_rises(count, limit):
-        pitch = row[place] + rise
-        wrong = [abs(abs(row[at] - pitch) - beats) for at, beats in ties]
-        if max(wrong) <= 1 and off + sum(wrong) <= limit:
+    for pitch in pitches:
+        wrong = [abs(abs(row[at] - pitch) - count) for at, count in ties]
+        if max(wrong, default=0) <= 1 and off + sum(wrong) <= limit:
             found.append((row + (pitch,), off + sum(wrong)))
     return found
+
+
+def near_pitches(row, ties, limit):
+    """Return the pitches, each once, that the first of the ties leaves for the next fork."""
+    if not ties:
+        return [0]
+    place, count = ties[0]
+    return [row[place] + rise for rise in allowed_rises(count, limit)]
 
 
 def holds_in(fact, columns, row):

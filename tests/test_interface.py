@@ -6,11 +6,15 @@ import unittest
 
 from forkbeats.bench import Bench
 from forkbeats.certificates import checks
-from forkbeats.errors import BadText, Clash
+from forkbeats.desk import Desk
+from forkbeats.drift import drifts
+from forkbeats.errors import BadText, Clash, LineError
 from forkbeats.facts import Above, Between, Trio
 from forkbeats.fittings import fittings
 from forkbeats.graph import blocks, cut_forks, walk
 from forkbeats.notation import parse_fact
+from forkbeats.plans import next_pair, settling, strategy
+from forkbeats.scales import alike_in_beats, rebuild
 from forkbeats.tunings import Tuning
 from forkbeats.verdicts import Trial, least_limit, suppose, surely_off, verdict
 from tests.helpers import caught
@@ -43,6 +47,7 @@ METHODS = {
         ],
     },
     "verdicts": {"Trial": ["__init__", "__enter__", "__exit__"]},
+    "desk": {"Desk": ["__init__", "run"]},
 }
 FUNCTIONS = {
     "notation": {"parse_fact": "(text)"},
@@ -81,6 +86,22 @@ FUNCTIONS = {
         "attempt": "(bench, act)",
         "suppose": "(bench, question, *facts)",
     },
+    "plans": {
+        "groups": "(bench, *pairs)",
+        "next_pair": "(bench)",
+        "settling": "(bench)",
+        "strategy": "(bench)",
+    },
+    "scales": {
+        "beats_of": "(pitches)",
+        "alike_in_beats": "(first, second)",
+        "sums": "(first, second)",
+        "differences": "(first, second)",
+        "rebuild": "(beats)",
+        "degrees": "(bench, steps)",
+    },
+    "drift": {"drifts": "(bench, group, later, *, most=12)"},
+    "desk": {"table": "(bench)"},
 }
 BENCH = {
     "of": "(*strikes, limit=0)",
@@ -122,6 +143,10 @@ class InterfaceTest(unittest.TestCase):
 
     def test_the_arguments_of_a_trial(self):
         self.assertEqual(str(inspect.signature(Trial)), "(bench)")
+
+    def test_the_arguments_of_a_desk(self):
+        self.assertEqual(str(inspect.signature(Desk)), "()")
+        self.assertEqual(str(inspect.signature(Desk.run)), "(self, *lines)")
 
     def test_of_is_a_class_method_and_read_a_static_method(self):
         self.assertIsInstance(vars(Tuning)["of"], classmethod)
@@ -189,6 +214,29 @@ class ExamplesTest(unittest.TestCase):
         self.assertEqual(
             (least_limit(bench)[0], least_limit(bench)[1], surely_off(bench)),
             (2, (0, -1), [0, 1]))
+
+    def test_plans(self):
+        bench = Bench.of(("a", "b", 1), ("b", "c", 2))
+        self.assertEqual(
+            (next_pair(bench), settling(bench), strategy(bench)),
+            (("a", "c", 1), [("a", "c")],
+             ("strike", "a", "c", [(1, ("shape", (0, -1, 1))), (3, ("shape", (0, -1, -3)))])))
+
+    def test_scales(self):
+        self.assertEqual(
+            (rebuild([1, 2, 3]), rebuild([1, 1, 1]), alike_in_beats((0, 1, 4, 10, 12, 17), (0, 1, 8, 11, 13, 17))),
+            ([(0, 1, 3)], [], True))
+
+    def test_drift(self):
+        self.assertEqual(
+            drifts(Bench.of(("a", "b", 3)), ["b"], [("b", "a", 5)], most=4), [(-2, (0, -3)), (2, (0, 3))])
+
+    def test_desk(self):
+        self.assertEqual(
+            Desk().run("add a b c", "strike a b 1", "strike b c 2", "count", "beats a c", "undo", "ask above a b"),
+            ["added 3", "strike 0", "strike 1", "count 4", "beats 1 3", "undone strike b c 2", "open"])
+        self.assertEqual(
+            caught(Desk().run, "add a", "strike a a 1", "add"), (LineError, {"index": 1, "line": "strike a a 1"}))
 
 
 if __name__ == "__main__":

@@ -15,7 +15,10 @@ BUILTINS = {
     "ValueError", "KeyError", "IndexError", "LookupError", "TypeError", "NotImplementedError", "NotImplemented",
 }
 # The interface's order, with the modules that it does not list where they are first needed.
-ORDER = ["errors", "words", "tunings", "facts", "notation", "bench", "graph", "fittings", "certificates", "verdicts"]
+ORDER = [
+    "errors", "words", "tunings", "facts", "notation", "bench", "graph", "fittings", "certificates", "verdicts",
+    "plans", "scales", "drift", "desk",
+]
 BARRED_NAMES = re.compile(
     r"(_cold|_tuplegetter|_outside|_record|_written_out|_member_names)[0-9_]*"
     r"|_(wall|pe_|dcw_|enum_|cm_|twin_re_|lay_|law_|stub_|sre|WallAttr).*|register|mro|elements|open|input|law"
