@@ -214,6 +214,6 @@ def with_closers(bench, indexes):
             order.append(index)
             groups = pieces_of(bench.forks(), [strikes[at] for at in order])
             for at, (a, b, _) in enumerate(strikes):
-                if at not in order and [group for group in groups if a in group and b in group]:
+                if at not in order and any([a in group and b in group for group in groups]):
                     order.append(at)
     return order

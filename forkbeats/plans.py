@@ -109,7 +109,8 @@ def need_of(first, second, pairs):
 
 def many_bits(need):
     """Return the number of pairs of a need."""
-    return f"{need:b}".count("1")
+    digits = f"{need:b}"
+    return digits.count("1")
 
 
 def least_needs(needs):
@@ -211,8 +212,8 @@ class Planner:
         room = most_leaves(sizes, depth - 1)
         for at, lots in enumerate(found):
             # The greatest part is the likeliest one to need more strikes.
-            lots = sorted(lots, key=len, reverse=True)
-            if 1 < len(lots) and len(lots[0]) <= room and self._can_settle(lots, depth - 1):
+            ordered = sorted(lots, key=len, reverse=True)
+            if len(lots) > 1 and len(ordered[0]) <= room and self._can_settle(ordered, depth - 1):
                 return at
         return None
 

@@ -173,7 +173,8 @@ class RefusedTest(unittest.TestCase):
         for line in (
             "", " ", "  ", "add", "strike", "tell", "limit", "ask", "beats", "Add x", "ADD x", "sub x", "forks",
             "adds x", "strike a b", "strike a 4", "strike a b 4 4", "strike a b c 4", "limit 1 1", "undo 1",
-            "undo undo", "redo a", "count a", "count count", "beats a", "beats a b c", "history", "a", "undo;", "above a b", "add\tx", "add,x",
+            "undo undo", "redo a", "count a", "count count", "beats a", "beats a b c", "history", "a", "undo;",
+            "above a b", "add\tx", "add,x",
             "tell", "ask", "tell above", "ask above a", "tell above a b c", "ask not above a b", "tell above(a b)",
             "tell trio a b c 3 2 1", "tell highest", "ask (above a b)", "tell Above a b", "ask above a B",
         ):

@@ -256,8 +256,9 @@ class NamesTest(unittest.TestCase):
         for name in ("", "A", "a b", "abcdefghijklm", "a\n", "\u00e4", "e"):
             for call in (
                 lambda: bench.strike("a", name, 1), lambda: bench.strike(name, name, -1),
-                lambda: walk(bench, name, "a"), lambda: possible_beats(bench, "a", name), lambda: groups(bench, ("a", name)),
-                lambda: drifts(bench, [name], []), lambda: drifts(bench, [], [("a", name, 1)]),
+                lambda: walk(bench, name, "a"), lambda: possible_beats(bench, "a", name),
+                lambda: groups(bench, ("a", name)), lambda: drifts(bench, [name], []),
+                lambda: drifts(bench, [], [("a", name, 1)]),
             ):
                 error, attributes = caught(call)
                 self.assertEqual((error.__name__, attributes), ("UnknownFork", {"name": name}))
