@@ -123,9 +123,9 @@ def copied(leaf):
         case ["round", start, walk]:
             return ("round", start, list(walk))
         case ["fact", number, walks]:
-            return ("fact", number, [list(walk) for walk in walks])
+            return ("fact", number, [list(each) for each in walks])
         case ["told", walks]:
-            return ("told", [list(walk) for walk in walks])
+            return ("told", [list(each) for each in walks])
     return leaf
 
 

@@ -84,6 +84,46 @@ def grown_in_loops(function):
     return found
 
 
+def captured_by(case):
+    """Return the names that the pattern of a case captures."""
+    parts = [part for part in ast.walk(case.pattern) if isinstance(part, (ast.MatchAs, ast.MatchStar))]
+    return {part.name for part in parts if part.name}
+
+
+def own_names(node):
+    """Return the names that the node gives or reads itself, without what stands in it."""
+    if isinstance(node, ast.Name):
+        return {node.id}
+    if isinstance(node, ast.arg):
+        return {node.arg}
+    if isinstance(node, (ast.FunctionDef, ast.ExceptHandler)):
+        return {node.name}
+    return set(node.names) if isinstance(node, ast.Nonlocal) else set()
+
+
+def strays_in(node, captured, held):
+    """Return those captured names that the node gives, or reads where no case around it holds them."""
+    if isinstance(node, ast.match_case):
+        # A case within a case that holds the name already captures it again.
+        found = captured_by(node) & held
+        held = held | captured_by(node)
+        parts = node.body + [node.guard] if node.guard else node.body
+    else:
+        is_read = isinstance(node, ast.Name) and isinstance(node.ctx, ast.Load)
+        found = own_names(node) & captured - (held if is_read else set())
+        parts = list(ast.iter_child_nodes(node))
+    if isinstance(node, (ast.FunctionDef, ast.Lambda)):
+        held = set()
+    return found.union(*[strays_in(part, captured, held) for part in parts])
+
+
+def stray_captures(function):
+    """Return the names that cases of the function capture and that it also gives, or reads outside of these cases."""
+    cases = [node for node in ast.walk(function) if isinstance(node, ast.match_case)]
+    captured = set().union(*map(captured_by, cases))
+    return set().union(*[strays_in(part, captured, set()) for part in (function.args, *function.body)])
+
+
 class LanguageTest(unittest.TestCase):
     def test_the_folder_contains_only_plain_files(self):
         others = [path.name for path in PACKAGE.iterdir() if path not in FILES and path.name != "__pycache__"]
@@ -155,6 +195,48 @@ class LanguageTest(unittest.TestCase):
             for function in ast.walk(tree):
                 if isinstance(function, ast.FunctionDef):
                     self.assertEqual(grown_in_loops(function), [], f"{path.name} {function.name}")
+
+    def test_captured_names_stand_in_their_own_cases_alone(self):
+        many = 0
+        for path, _, tree in trees():
+            for function in ast.walk(tree):
+                if isinstance(function, ast.FunctionDef):
+                    many += any(isinstance(node, ast.Match) for node in ast.walk(function))
+                    self.assertEqual(stray_captures(function), set(), f"{path.name} {function.name}")
+        self.assertGreater(many, 0)
+
+    def assert_strays(self, names, *rows):
+        """Check which names are strays in a function whose match has these rows."""
+        head = ["def told(leaf):", "    match leaf:"]
+        text = "\n".join(head + ["        " + row for row in rows])
+        self.assertEqual(stray_captures(ast.parse(text).body[0]), set(names.split()), text)
+
+    def test_captures_that_stand_in_their_own_cases(self):
+        self.assert_strays("", "case 1:", "    leaf = walk = 2")
+        self.assert_strays("", "case [walk]:", "    return walk", "case [1, walk] if walk:", "    return [walk]")
+        self.assert_strays("", "case [walk, _]:", "    return [row for row in walk]", "case [*others]:", "    pass")
+        self.assert_strays("", "case [1 | 2 as a]:", "    match a:", "        case [b]:", "            return a, b")
+
+    def test_captures_that_are_given_by_more_than_cases(self):
+        self.assert_strays("walk", "case [walk]:", "    pass", "case [a]:", "    return [walk for walk in a]")
+        self.assert_strays("row", "case [walk]:", "    return [row for row in walk]", "case [*row]:", "    pass")
+        self.assert_strays("walk", "case [walk]:", "    return {walk: 1 for walk in leaf}")
+        self.assert_strays("a b", "case [a, *b]:", "    a = 1", "    b += 1")
+        self.assert_strays("a b", "case [a, b]:", "    for a, (b, c) in leaf:", "        pass")
+        self.assert_strays("leaf", "case [leaf]:", "    pass")
+        self.assert_strays("a", "case [a]:", "    match leaf:", "        case [1, a]:", "            return a")
+        self.assert_strays("a", "case [a]:", "    try:", "        pass", "    except KeyError as a:", "        pass")
+        self.assert_strays("a b", "case [a, b]:", "    def a(c):", "        nonlocal b", "        return c")
+        self.assert_strays("a", "case [a]:", "    del a")
+        self.assert_strays("a", "case [a]:", "    if a := 1:", "        pass")
+
+    def test_captures_that_are_read_elsewhere(self):
+        self.assert_strays("walk", "case [walk]:", "    pass", "case [a]:", "    return walk")
+        self.assert_strays("a", "case [a]:", "    pass", "case [b] if a:", "    pass")
+        self.assert_strays("a", "case [1 as a]:", "    return lambda: a")
+        self.assert_strays("a", "case [*a]:", "    def inner():", "        return a", "    return inner")
+        text = "def told(leaf):\n    match leaf:\n        case [a]:\n            pass\n    return a"
+        self.assertEqual(stray_captures(ast.parse(text).body[0]), {"a"})
 
     def test_functions_do_not_repeat_names_of_their_file(self):
         for path, _, tree in trees():
